@@ -1,4 +1,5 @@
-package limb_test
+// Package decisions has the test that the packages of secret words decide nothing by them.
+package decisions
 
 import (
 	"go/ast"
@@ -11,16 +12,22 @@ import (
 	"testing"
 )
 
-// Numbers are secret, and the positions in them, which are ints, are public.
-// Results do not show decisions, so this reads the source: words are never
-// turned into values of other types, and are no indices, so that a decision
-// depends on public values only.
+// Results do not show decisions, so this reads the source of packages whose words
+// are secret, while their other values, as numbers of fields and positions, are
+// public: words are never turned into values of other types, and are no indices,
+// so that a decision depends on public values only.
 func TestNoDecisions(t *testing.T) {
+	for _, name := range []string{"limb", "field"} {
+		t.Run(name, func(t *testing.T) { checkPackage(t, name) })
+	}
+}
+
+func checkPackage(t *testing.T, name string) {
 	files := token.NewFileSet()
 	info := &types.Info{Types: map[ast.Expr]types.TypeAndValue{}}
-	syntax := parse(t, files)
+	syntax := parse(t, files, name)
 	config := types.Config{Importer: importer.ForCompiler(files, "source", nil)}
-	if _, err := config.Check("sharecore/limb", files, syntax, info); err != nil {
+	if _, err := config.Check("sharecore/"+name, files, syntax, info); err != nil {
 		t.Fatal(err)
 	}
 	for _, file := range syntax {
@@ -33,23 +40,26 @@ func TestNoDecisions(t *testing.T) {
 	}
 }
 
-// parse parses the files of the package that are no tests.
-func parse(t *testing.T, files *token.FileSet) []*ast.File {
+// parse parses the files of a package that are no tests.
+func parse(t *testing.T, files *token.FileSet, name string) []*ast.File {
 	t.Helper()
 	var syntax []*ast.File
-	names, err := filepath.Glob("*.go")
+	paths, err := filepath.Glob(filepath.Join("..", name, "*.go"))
 	if err != nil {
 		t.Fatal(err)
 	}
-	for _, name := range names {
-		if strings.HasSuffix(name, "_test.go") {
+	for _, path := range paths {
+		if strings.HasSuffix(path, "_test.go") {
 			continue
 		}
-		file, err := parser.ParseFile(files, name, nil, 0)
+		file, err := parser.ParseFile(files, path, nil, 0)
 		if err != nil {
 			t.Fatal(err)
 		}
 		syntax = append(syntax, file)
+	}
+	if len(syntax) == 0 {
+		t.Fatal("there are no files")
 	}
 	return syntax
 }
@@ -124,6 +134,12 @@ func has(t types.Type, is func(*types.Basic) bool) bool {
 		return has(x.Elem(), is)
 	case *types.Pointer:
 		return has(x.Elem(), is)
+	case *types.Struct:
+		for v := range x.Fields() {
+			if has(v.Type(), is) {
+				return true
+			}
+		}
 	case *types.Tuple:
 		for v := range x.Variables() {
 			if has(v.Type(), is) {
