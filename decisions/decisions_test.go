@@ -17,7 +17,7 @@ import (
 // public: words are never turned into values of other types, and are no indices,
 // so that a decision depends on public values only.
 func TestNoDecisions(t *testing.T) {
-	for _, name := range []string{"limb", "field", "mont"} {
+	for _, name := range []string{"limb", "field", "mont", "power"} {
 		t.Run(name, func(t *testing.T) { checkPackage(t, name) })
 	}
 }
