@@ -8,21 +8,27 @@ import (
 	"go/token"
 	"go/types"
 	"path/filepath"
+	"slices"
 	"strings"
 	"testing"
 )
 
 // Results do not show decisions, so this reads the source of packages whose words
-// are secret, while their other values, as numbers of fields and positions, are
-// public: words are never turned into values of other types, and are no indices,
-// so that a decision depends on public values only.
+// and bytes are secret, while their other values, as numbers of fields and
+// positions, are public: words and bytes are never turned into values of other
+// types, and are no indices, so that a decision depends on public values only. The
+// exceptions are the functions that tell canonical encodings and paddings from
+// others, each by one decision that is in no loop.
 func TestNoDecisions(t *testing.T) {
 	for _, name := range []string{"limb", "field", "mont", "power"} {
 		t.Run(name, func(t *testing.T) { checkPackage(t, name) })
 	}
+	t.Run("bytecode", func(t *testing.T) { checkPackage(t, "bytecode", "Decode", "Unpack") })
 }
 
-func checkPackage(t *testing.T, name string) {
+// checkPackage checks a package in which the functions of the given names make one
+// decision each, and the others none.
+func checkPackage(t *testing.T, name string, exceptions ...string) {
 	files := token.NewFileSet()
 	info := &types.Info{Types: map[ast.Expr]types.TypeAndValue{}}
 	syntax := parse(t, files, name)
@@ -31,13 +37,49 @@ func checkPackage(t *testing.T, name string) {
 		t.Fatal(err)
 	}
 	for _, file := range syntax {
-		ast.Inspect(file, func(n ast.Node) bool {
-			if n != nil && shows(info, n) {
-				t.Errorf("%s: a decision or an index by secret words", files.Position(n.Pos()))
-			}
-			return true
-		})
+		for _, d := range file.Decls {
+			checkDeclaration(t, files, info, d, exceptions)
+		}
 	}
+}
+
+func checkDeclaration(t *testing.T, files *token.FileSet, info *types.Info, d ast.Decl, exceptions []string) {
+	found, permitted := decisions(info, d), 0
+	if f, ok := d.(*ast.FuncDecl); ok && f.Recv == nil && slices.Contains(exceptions, f.Name.Name) {
+		permitted = 1
+	}
+	if len(found) == permitted && !slices.ContainsFunc(found, func(n ast.Node) bool { return inLoop(d, n) }) {
+		return
+	}
+	t.Errorf("%s: %d decisions or indices by secret words or bytes instead of %d outside loops", files.Position(d.Pos()), len(found), permitted)
+	for _, n := range found {
+		t.Logf("%s", files.Position(n.Pos()))
+	}
+}
+
+// decisions returns the parts of a declaration that show secret operands.
+func decisions(info *types.Info, d ast.Decl) []ast.Node {
+	var found []ast.Node
+	ast.Inspect(d, func(n ast.Node) bool {
+		if n != nil && shows(info, n) {
+			found = append(found, n)
+		}
+		return true
+	})
+	return found
+}
+
+// inLoop reports whether a part of a declaration is repeated.
+func inLoop(d ast.Decl, part ast.Node) bool {
+	found := false
+	ast.Inspect(d, func(n ast.Node) bool {
+		switch n.(type) {
+		case *ast.ForStmt, *ast.RangeStmt, *ast.FuncLit:
+			found = found || n.Pos() <= part.Pos() && part.End() <= n.End()
+		}
+		return true
+	})
+	return found
 }
 
 // parse parses the files of a package that are no tests.
@@ -111,15 +153,15 @@ func shows(info *types.Info, n ast.Node) bool {
 	return false
 }
 
-// hasWords reports whether values of a type consist of words.
-func hasWords(t types.Type) bool {
-	return has(t, func(b *types.Basic) bool { return b.Kind() == types.Uint64 })
+// hasWords reports whether values of a type have words or bytes.
+func hasWords(t types.Type) bool { return has(t, isWord) }
+
+// hasOthers reports whether values of a type have parts that are no words or bytes.
+func hasOthers(t types.Type) bool {
+	return has(t, func(b *types.Basic) bool { return !isWord(b) })
 }
 
-// hasOthers reports whether values of a type have parts that are no words.
-func hasOthers(t types.Type) bool {
-	return has(t, func(b *types.Basic) bool { return b.Kind() != types.Uint64 })
-}
+func isWord(b *types.Basic) bool { return b.Kind() == types.Uint64 || b.Kind() == types.Uint8 }
 
 func has(t types.Type, is func(*types.Basic) bool) bool {
 	if t == nil {
