@@ -20,7 +20,7 @@ import (
 // exceptions are the functions that tell canonical encodings and paddings from
 // others, each by one decision that is in no loop.
 func TestNoDecisions(t *testing.T) {
-	for _, name := range []string{"limb", "field", "mont", "power", "poly"} {
+	for _, name := range []string{"limb", "field", "mont", "power", "poly", "lagrange"} {
 		t.Run(name, func(t *testing.T) { checkPackage(t, name) })
 	}
 	t.Run("bytecode", func(t *testing.T) { checkPackage(t, "bytecode", "Decode", "Unpack") })
