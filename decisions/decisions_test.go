@@ -7,6 +7,7 @@ import (
 	"go/parser"
 	"go/token"
 	"go/types"
+	"maps"
 	"path/filepath"
 	"slices"
 	"strings"
@@ -20,20 +21,32 @@ import (
 // exceptions are the functions that tell canonical encodings and paddings from
 // others, each by one decision that is in no loop.
 func TestNoDecisions(t *testing.T) {
-	for _, name := range []string{"limb", "field", "mont", "power", "poly", "lagrange"} {
-		t.Run(name, func(t *testing.T) { checkPackage(t, name) })
+	for _, name := range slices.Sorted(maps.Keys(packages())) {
+		t.Run(name, func(t *testing.T) { checkPackage(t, name, packages()[name]) })
 	}
-	t.Run("bytecode", func(t *testing.T) { checkPackage(t, "bytecode", "Decode", "Unpack") })
 }
 
-// checkPackage checks a package in which the functions of the given names make one
-// decision each, and the others none.
-func checkPackage(t *testing.T, name string, exceptions ...string) {
+// packages returns the packages of secret words and bytes, each with the names of
+// the functions that make one decision; the others make none.
+func packages() map[string][]string {
+	return map[string][]string{
+		"limb":     nil,
+		"field":    nil,
+		"mont":     nil,
+		"power":    nil,
+		"bytecode": {"Decode", "Unpack"},
+		"poly":     nil,
+		"lagrange": nil,
+		"degree":   nil,
+	}
+}
+
+func checkPackage(t *testing.T, name string, exceptions []string) {
 	files := token.NewFileSet()
-	info := &types.Info{Types: map[ast.Expr]types.TypeAndValue{}}
+	info := &types.Info{Types: map[ast.Expr]types.TypeAndValue{}, Uses: map[*ast.Ident]types.Object{}}
 	syntax := parse(t, files, name)
 	config := types.Config{Importer: importer.ForCompiler(files, "source", nil)}
-	if _, err := config.Check("sharecore/"+name, files, syntax, info); err != nil {
+	if _, err := config.Check(importPath(name), files, syntax, info); err != nil {
 		t.Fatal(err)
 	}
 	for _, file := range syntax {
@@ -42,6 +55,9 @@ func checkPackage(t *testing.T, name string, exceptions ...string) {
 		}
 	}
 }
+
+// importPath returns the import path of a package of the module.
+func importPath(name string) string { return "sharecore/" + name }
 
 func checkDeclaration(t *testing.T, files *token.FileSet, info *types.Info, d ast.Decl, exceptions []string) {
 	found, permitted := decisions(info, d), 0
@@ -148,7 +164,31 @@ func shows(info *types.Info, n ast.Node) bool {
 		case "min", "max":
 			return secret(x.Args...)
 		}
-		return secret(x.Args...) && hasOthers(info.Types[x].Type)
+		return secret(x.Args...) && hasOthers(info.Types[x].Type) && !isChecked(info, x)
+	}
+	return false
+}
+
+// isChecked reports whether a call is one of a function of a checked package that
+// makes no decisions, so that its results of other types than words and bytes, as
+// an error for a wrong length, show arguments of other types only.
+func isChecked(info *types.Info, call *ast.CallExpr) bool {
+	name := ast.Unparen(call.Fun)
+	if x, ok := name.(*ast.SelectorExpr); ok {
+		name = x.Sel
+	}
+	id, ok := name.(*ast.Ident)
+	if !ok {
+		return false
+	}
+	f, ok := info.Uses[id].(*types.Func)
+	if !ok || f.Signature().Recv() != nil {
+		return false
+	}
+	for name, exceptions := range packages() {
+		if f.Pkg().Path() == importPath(name) {
+			return !slices.Contains(exceptions, f.Name())
+		}
 	}
 	return false
 }
