@@ -19,29 +19,39 @@ import (
 // positions, are public: words and bytes are never turned into values of other
 // types, and are no indices, so that a decision depends on public values only. The
 // exceptions are the functions that tell canonical encodings and paddings from
-// others, each by one decision that is in no loop.
+// others, each by one decision.
 func TestNoDecisions(t *testing.T) {
 	for _, name := range slices.Sorted(maps.Keys(packages())) {
 		t.Run(name, func(t *testing.T) { checkPackage(t, name, packages()[name]) })
 	}
 }
 
+// An exception is a function that makes one decision: once in a call, or for each
+// element of a list.
+type exception int
+
+const (
+	once exception = iota + 1
+	each
+)
+
 // packages returns the packages of secret words and bytes, each with the names of
-// the functions that make one decision; the others make none.
-func packages() map[string][]string {
-	return map[string][]string{
+// the functions that make a decision; the others make none.
+func packages() map[string]map[string]exception {
+	return map[string]map[string]exception{
 		"limb":     nil,
 		"field":    nil,
 		"mont":     nil,
 		"power":    nil,
-		"bytecode": {"Decode", "Unpack"},
+		"bytecode": {"Decode": once, "Unpack": once},
 		"poly":     nil,
 		"lagrange": nil,
 		"degree":   nil,
+		"chunks":   {"Join": each},
 	}
 }
 
-func checkPackage(t *testing.T, name string, exceptions []string) {
+func checkPackage(t *testing.T, name string, exceptions map[string]exception) {
 	files := token.NewFileSet()
 	info := &types.Info{Types: map[ast.Expr]types.TypeAndValue{}, Uses: map[*ast.Ident]types.Object{}}
 	syntax := parse(t, files, name)
@@ -59,18 +69,31 @@ func checkPackage(t *testing.T, name string, exceptions []string) {
 // importPath returns the import path of a package of the module.
 func importPath(name string) string { return "sharecore/" + name }
 
-func checkDeclaration(t *testing.T, files *token.FileSet, info *types.Info, d ast.Decl, exceptions []string) {
-	found, permitted := decisions(info, d), 0
-	if f, ok := d.(*ast.FuncDecl); ok && f.Recv == nil && slices.Contains(exceptions, f.Name.Name) {
-		permitted = 1
+func checkDeclaration(t *testing.T, files *token.FileSet, info *types.Info, d ast.Decl, exceptions map[string]exception) {
+	var kind exception
+	if f, ok := d.(*ast.FuncDecl); ok && f.Recv == nil {
+		kind = exceptions[f.Name.Name]
 	}
-	if len(found) == permitted && !slices.ContainsFunc(found, func(n ast.Node) bool { return inLoop(d, n) }) {
+	found := decisions(info, d)
+	looped := slices.ContainsFunc(found, func(n ast.Node) bool { return inLoop(d, n) })
+	if kind.permits(len(found), looped) {
 		return
 	}
-	t.Errorf("%s: %d decisions or indices by secret words or bytes instead of %d outside loops", files.Position(d.Pos()), len(found), permitted)
+	t.Errorf("%s: %d decisions or indices by secret words or bytes, in a loop: %t", files.Position(d.Pos()), len(found), looped)
 	for _, n := range found {
 		t.Logf("%s", files.Position(n.Pos()))
 	}
+}
+
+// permits reports whether a function may have n decisions that are in a loop or not.
+func (kind exception) permits(n int, looped bool) bool {
+	switch kind {
+	case once:
+		return n == 1 && !looped
+	case each:
+		return n == 1 && looped
+	}
+	return n == 0
 }
 
 // decisions returns the parts of a declaration that show secret operands.
@@ -187,7 +210,7 @@ func isChecked(info *types.Info, call *ast.CallExpr) bool {
 	}
 	for name, exceptions := range packages() {
 		if f.Pkg().Path() == importPath(name) {
-			return !slices.Contains(exceptions, f.Name())
+			return exceptions[f.Name()] == 0
 		}
 	}
 	return false
