@@ -48,6 +48,7 @@ func packages() map[string]map[string]exception {
 		"lagrange": nil,
 		"degree":   nil,
 		"chunks":   {"Join": each},
+		"source":   nil,
 	}
 }
 
@@ -163,7 +164,7 @@ func shows(info *types.Info, n ast.Node) bool {
 		case token.SHL, token.SHR:
 			return secret(x.Y)
 		}
-		return secret(x.X, x.Y) && !hasWords(info.Types[x].Type)
+		return secret(x.X, x.Y) && !hasWords(info.Types[x].Type) && !isNil(info, x.X) && !isNil(info, x.Y)
 	case *ast.AssignStmt:
 		switch x.Tok {
 		case token.QUO_ASSIGN, token.REM_ASSIGN:
@@ -187,9 +188,22 @@ func shows(info *types.Info, n ast.Node) bool {
 		case "min", "max":
 			return secret(x.Args...)
 		}
-		return secret(x.Args...) && hasOthers(info.Types[x].Type) && !isChecked(info, x)
+		return secret(withoutFields(info, x.Args)...) && hasOthers(info.Types[x].Type) && !isChecked(info, x)
 	}
 	return false
+}
+
+// isNil reports whether an expression is nil. Whether a pointer or a slice is nil
+// shows none of its words and bytes.
+func isNil(info *types.Info, x ast.Expr) bool { return info.Types[x].IsNil() }
+
+// withoutFields returns the arguments that are no fields: the words of a field are
+// public constants.
+func withoutFields(info *types.Info, args []ast.Expr) []ast.Expr {
+	return slices.DeleteFunc(slices.Clone(args), func(x ast.Expr) bool {
+		t := info.Types[x].Type
+		return t != nil && types.TypeString(t, nil) == importPath("field")+".Field"
+	})
 }
 
 // isChecked reports whether a call is one of a function of a checked package that
