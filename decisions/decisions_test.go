@@ -49,6 +49,7 @@ func packages() map[string]map[string]exception {
 		"degree":   nil,
 		"chunks":   {"Join": each},
 		"source":   nil,
+		"params":   {"CheckShare": once, "CheckShares": each},
 	}
 }
 
