@@ -50,6 +50,7 @@ func packages() map[string]map[string]exception {
 		"chunks":   {"Join": each},
 		"source":   nil,
 		"params":   {"CheckShare": once, "CheckShares": each},
+		"deal":     nil,
 	}
 }
 
@@ -184,7 +185,10 @@ func shows(info *types.Info, n ast.Node) bool {
 		return number && secret(x.X)
 	case *ast.CallExpr:
 		switch types.ExprString(x.Fun) {
-		case "len", "cap", "copy":
+		case "len", "cap", "copy", "append":
+			return false
+		case "yield":
+			// This returns whether a loop goes on, and the body of the loop is read too.
 			return false
 		case "min", "max":
 			return secret(x.Args...)
