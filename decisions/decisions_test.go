@@ -19,19 +19,20 @@ import (
 // positions, are public: words and bytes are never turned into values of other
 // types, and are no indices, so that a decision depends on public values only. The
 // exceptions are the functions that tell canonical encodings and paddings from
-// others, each by one decision.
+// others, each by one decision or by one for either.
 func TestNoDecisions(t *testing.T) {
 	for _, name := range slices.Sorted(maps.Keys(packages())) {
 		t.Run(name, func(t *testing.T) { checkPackage(t, name, packages()[name]) })
 	}
 }
 
-// An exception is a function that makes one decision: once in a call, or for each
-// element of a list.
+// An exception is a function that makes decisions: one or two in a call, or one for
+// each element of a list.
 type exception int
 
 const (
 	once exception = iota + 1
+	twice
 	each
 )
 
@@ -51,6 +52,7 @@ func packages() map[string]map[string]exception {
 		"source":   nil,
 		"params":   {"CheckShare": once, "CheckShares": each},
 		"deal":     nil,
+		"join":     {"Values": once, "Combine": twice, "At": once, "usedOf": once},
 	}
 }
 
@@ -93,6 +95,8 @@ func (kind exception) permits(n int, looped bool) bool {
 	switch kind {
 	case once:
 		return n == 1 && !looped
+	case twice:
+		return n == 2 && !looped
 	case each:
 		return n == 1 && looped
 	}
