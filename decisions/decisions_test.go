@@ -19,26 +19,23 @@ import (
 // positions, are public: words and bytes are never turned into values of other
 // types, and are no indices, so that a decision depends on public values only. The
 // exceptions are the functions that tell canonical encodings and paddings from
-// others, each by one decision or by one for either.
+// others, each by one decision or by one for either, and those of package audit,
+// each of whose answers is a decision.
 func TestNoDecisions(t *testing.T) {
 	for _, name := range slices.Sorted(maps.Keys(packages())) {
 		t.Run(name, func(t *testing.T) { checkPackage(t, name, packages()[name]) })
 	}
 }
 
-// An exception is a function that makes decisions: one or two in a call, or one for
-// each element of a list.
-type exception int
-
-const (
-	once exception = iota + 1
-	twice
-	each
-)
+// An exception is the number of the decisions of a function, those outside its loops
+// and closures and those inside, where there may be one for each element of a list.
+type exception struct{ outside, inside int }
 
 // packages returns the packages of secret words and bytes, each with the names of
-// the functions that make a decision; the others make none.
+// the functions that make decisions; the others make none.
 func packages() map[string]map[string]exception {
+	once, twice, each := exception{1, 0}, exception{2, 0}, exception{0, 1}
+	onceAndEach := exception{1, 1}
 	return map[string]map[string]exception{
 		"limb":     nil,
 		"field":    nil,
@@ -53,6 +50,7 @@ func packages() map[string]map[string]exception {
 		"params":   {"CheckShare": once, "CheckShares": each},
 		"deal":     nil,
 		"join":     {"Values": once, "Combine": twice, "At": once, "usedOf": once},
+		"audit":    {"Consistent": twice, "Chunks": onceAndEach, "Suspects": onceAndEach, "areConsistent": once},
 	}
 }
 
@@ -75,32 +73,25 @@ func checkPackage(t *testing.T, name string, exceptions map[string]exception) {
 func importPath(name string) string { return "sharecore/" + name }
 
 func checkDeclaration(t *testing.T, files *token.FileSet, info *types.Info, d ast.Decl, exceptions map[string]exception) {
-	var kind exception
+	var permitted, made exception
 	if f, ok := d.(*ast.FuncDecl); ok && f.Recv == nil {
-		kind = exceptions[f.Name.Name]
+		permitted = exceptions[f.Name.Name]
 	}
 	found := decisions(info, d)
-	looped := slices.ContainsFunc(found, func(n ast.Node) bool { return inLoop(d, n) })
-	if kind.permits(len(found), looped) {
+	for _, n := range found {
+		if inLoop(d, n) {
+			made.inside++
+		} else {
+			made.outside++
+		}
+	}
+	if made == permitted {
 		return
 	}
-	t.Errorf("%s: %d decisions or indices by secret words or bytes, in a loop: %t", files.Position(d.Pos()), len(found), looped)
+	t.Errorf("%s: %d decisions or indices by secret words or bytes outside of loops and %d inside, instead of %d and %d", files.Position(d.Pos()), made.outside, made.inside, permitted.outside, permitted.inside)
 	for _, n := range found {
 		t.Logf("%s", files.Position(n.Pos()))
 	}
-}
-
-// permits reports whether a function may have n decisions that are in a loop or not.
-func (kind exception) permits(n int, looped bool) bool {
-	switch kind {
-	case once:
-		return n == 1 && !looped
-	case twice:
-		return n == 2 && !looped
-	case each:
-		return n == 1 && looped
-	}
-	return n == 0
 }
 
 // decisions returns the parts of a declaration that show secret operands.
@@ -233,7 +224,7 @@ func isChecked(info *types.Info, call *ast.CallExpr) bool {
 	}
 	for name, exceptions := range packages() {
 		if f.Pkg().Path() == importPath(name) {
-			return exceptions[f.Name()] == 0
+			return exceptions[f.Name()] == exception{}
 		}
 	}
 	return false
